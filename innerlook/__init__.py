@@ -1,0 +1,1 @@
+"""Innerlook: a machine of things that look within, and how far they may."""
