@@ -4,7 +4,7 @@ Readers that end in `_at` read from a place in a text. They tell a tuple of what
 stands there and the place behind it, or None where no such thing stands there.
 """
 
-from innerlook.errors import Fault, NoRows, NoText, NoWorth
+from innerlook.errors import Fault, NoName, NoRows, NoText, NoWorth
 
 MOST_NUMBER = 1_000_000_000
 MOST_THING = 999
@@ -31,6 +31,12 @@ def is_name(thing):
     if not isinstance(thing, str) or not 1 <= len(thing) <= MOST_NAME:
         return False
     return thing not in NOT_NAMES and all(["a" <= sign <= "z" for sign in thing])
+
+
+def check_name(thing):
+    """Refuse what is no name."""
+    if not is_name(thing):
+        raise NoName(thing)
 
 
 def is_text(thing):
@@ -299,7 +305,7 @@ def moved(worth, numbers):
     _check_worth(worth)
     if not _are_numbers(numbers):
         raise NoRows(numbers)
-    return _put_otherwise(worth, numbers)
+    return put_otherwise(worth, numbers)
 
 
 def _are_numbers(thing):
@@ -309,10 +315,10 @@ def _are_numbers(thing):
     return all([is_whole(number, 0, MOST_THING) for pair in thing.items() for number in pair])
 
 
-def _put_otherwise(worth, numbers):
+def put_otherwise(worth, numbers):
     """What was looked at, with each thing put otherwise."""
     if is_row(worth):
-        return "row", tuple([_put_otherwise(part, numbers) for part in worth[1]])
+        return "row", tuple([put_otherwise(part, numbers) for part in worth[1]])
     if isinstance(worth, tuple):
         return "thing", numbers.get(worth[1], worth[1])
     return worth

@@ -1,5 +1,7 @@
 """What several tests use."""
 
+from innerlook.errors import Fault
+
 PERCENT = chr(37)
 
 # Things that are no worths, no names, no rows, of every kind that may be handed in.
@@ -44,3 +46,19 @@ class Checks:
         self.assertEqual(caught.exception.found, found)
         self.assertIs(caught.exception.found.__class__, found.__class__)
         return caught.exception
+
+    def fault(self, why, found, call, *args, **named):
+        """A Fault of this word and of an equal thing of the same kind."""
+        return self.faulty(Fault, why, found, call, *args, **named)
+
+    def fault_of_very(self, why, found, call, *args, **named):
+        """A Fault of this word and of the very thing."""
+        self.assertIs(self.fault(why, found, call, *args, **named).found, found)
+
+    def keeps(self, store, call, *args, **named):
+        """What is told, or refused, while a Store stays as it was."""
+        before = store.twin()
+        try:
+            return call(*args, **named)
+        finally:
+            self.assertTrue(store == before)
