@@ -6,7 +6,7 @@ stands there and the place behind it, or None where no such thing stands there.
 
 from innerlook.errors import NoRow, NoText, NoTree
 from innerlook.params import params_at, params_text
-from innerlook.trees import FORMS, LOOKS, MOST_PARTS, MOST_STATEMENTS, MOST_WITHIN, NONE_LEFT, STATEMENTS
+from innerlook.trees import FORMS, MOST_PARTS, MOST_STATEMENTS, MOST_WITHIN, NONE_LEFT, STATEMENTS
 from innerlook.trees import blocks_in, check_deed, is_expression, left_behind_statement
 from innerlook.worths import is_name, name_at, worth_at, worth_text
 
@@ -161,7 +161,8 @@ def _shut(word, condition, blocks):
     first = tuple(blocks[0])
     if word == "while":
         return word, condition, first
-    return word, condition, first, tuple(blocks[1]) if len(blocks) > 1 else ()
+    second = tuple(blocks[1]) if len(blocks) > 1 else ()
+    return word, condition, first, second
 
 
 def read_deed(text):
@@ -225,11 +226,9 @@ def _part_at(text, at, what, levels):
         return None
     if what == "tree":
         return _expression_at(text, at + 1, levels)
-    # What is left are the name of a let and the word of a look.
+    # What is left are the name of a `let` and the word of a look. Whether they are, is looked at with the statement.
     end = _end_of_word(text, at + 1)
-    word = text[at + 1:end]
-    fits = is_name(word) if what == "name" else word in LOOKS
-    return (word, end) if fits else None
+    return text[at + 1:end], end
 
 
 def _args_at(text, at, levels):

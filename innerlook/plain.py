@@ -218,12 +218,7 @@ def run_plain(store, thing, name, *, args=(), named=None):
     store.record(thing)
     check_name(name)
     places, names = store.args_given(args), store.rows_given(named)
-    before = store.twin()
-    try:
-        return PlainRun(store).run_named(thing, name, places, names)
-    except Fault:
-        store.lay(before)
-        raise
+    return _run_whole(store, lambda run: run.run_named(thing, name, places, names))
 
 
 def rows_plain(store, thing, name, *, args=(), named=None):
@@ -247,9 +242,14 @@ def run_deed(store, thing, deed, *, args=(), named=None):
     store.record(thing)
     check_deed(deed)
     places, names = store.args_given(args), store.rows_given(named)
+    return _run_whole(store, lambda run: run.run_tree(thing, deed, places, names))
+
+
+def _run_whole(store, done):
+    """What is done with a run in a Store, which is as it was ahead where that comes to a fault."""
     before = store.twin()
     try:
-        return PlainRun(store).run_tree(thing, deed, places, names)
+        return done(PlainRun(store))
     except Fault:
         store.lay(before)
         raise

@@ -293,9 +293,13 @@ class Store:
             raise NoRows(rows)
         return dict(rows)
 
+    def never_changes(self, thing):
+        """Whether a thing is one of the first four."""
+        return thing[1] < len(FIRST_KINDS)
+
     def may_have_things(self, kind):
         """Whether something is a kind of which plain things are made, and kinds beneath it."""
-        return self._is_kind(kind) and (kind == ALL or kind[1] >= len(FIRST_KINDS))
+        return self._is_kind(kind) and (kind == ALL or not self.never_changes(kind))
 
     def wanted_names(self, kind):
         """All names that a kind and those above it want, from the kind up, a list."""
@@ -329,7 +333,7 @@ class Store:
 
     def _check_changes(self, thing):
         """Come to a fault with a thing of which no rows are set or dropped."""
-        if thing[1] < len(FIRST_KINDS):
+        if self.never_changes(thing):
             raise Fault("barred", thing)
         self._record_with_rows(thing)
 

@@ -148,7 +148,7 @@ class Reading(Checks, unittest.TestCase):
         for head in ("deed", "deed a", "deed a(", "deed a()", "deed ()", "deed a (", "deed a ( )", "deed  a ()",
                      "deed a  ()", "deed me ()", "deed none ()", "deed A ()", "deed abcdefghi ()", "deed a (x x)",
                      "deed a () x", "deed a ()()", "Deed a ()", "do 1", "end", "else", "x", "deed a (x=#1)", "()",
-                     "deeda ()", "deed a (x=[])", "a ()", "deed a (a b c d e f g)", "deed\ta ()"):
+                     "deeda ()", "deed a=()", "deed aA()", "deed a (x=[])", "a ()", "deed a (a b c d e f g)", "deed\ta ()"):
             self.stops_at(0, head)
             self.stops_at(1, "", head, "do 1")
             self.stops_at(0, head, "what", "ever")
@@ -164,7 +164,8 @@ class Reading(Checks, unittest.TestCase):
                      "(new x 1)", "(new x=1)", "(new x a=1 b)", "(new x a=1 a=1)", "(row x=1)", "(row 1,2)", "(row 1 )",
                      "(row (row 1)", "(onward x=1 2)", "(onward", "(look)", "(look sort)", "(look sort me me)",
                      "(look has me)", "(look get me 'a')", "(look text me)", "(look call me)", "(look  sort me)",
-                     "(look sort x=me)", "(look 'sort' me)", "(look sort  me)", "(lit 1)", "(name x)", "(me)", "(here)",
+                     "(look sort x=me)", "(look 'sort' me)", "(look sort  me)", "(lit 1)", "(lit x)", "(lit sort)", "(name x)", "(name sort)", "(add 1 2]",
+                     "(add 1 2x", "(row]", "(row 1'", "(new x a=1}", "(me)", "(here)",
                      "(if 1)", "(do 1)", "(give 1)", "(let x 1)", "(while 1)", "(set me 'a' 1)", "(x)", "(1)", "('a')",
                      "#1", "[]", "[1]", "'a", "a'", "'a'b'", "''x", "01", "-0", "-", "--1", "+1", "1.", "1000000001",
                      "-1000000001", "9" * 5000, "1x", "A", "x1", "abcdefghi", "nonenonen", "mehereme1", "x y", "1 2",
