@@ -10,7 +10,7 @@ class Copying:
     """All plain things that are copied with a first one, of which the rows that it shows are copied."""
 
     def __init__(self, store, first, shown_first):
-        self.store = store
+        self.in_store = store
         self.first = first
         self.shown_first = shown_first
 
@@ -31,24 +31,24 @@ class Copying:
         rows = self._rows(number)
         for name in list(rows):
             if name not in shared:
-                rows[name] = put_otherwise(bare_worth(self.store, rows[name]), numbers)
-        return PlainRecord(self.store.kind_of(("thing", number)), rows)
+                rows[name] = put_otherwise(bare_worth(self.in_store, rows[name]), numbers)
+        return PlainRecord(self.in_store.kind_of(("thing", number)), rows)
 
     def _rows(self, number):
         """The rows of which those of a copy are made."""
         thing = ("thing", number)
-        return dict(self.shown_first) if thing == self.first else self.store.rows(thing)
+        return dict(self.shown_first) if thing == self.first else self.in_store.rows(thing)
 
     def _shared_names(self, number):
         """The names of rows that lead a thing and its copy to the same."""
-        return self.store.shared_names(self.store.kind_of(("thing", number)))
+        return self.in_store.shared_names(self.in_store.kind_of(("thing", number)))
 
     def _led_to(self, number):
         """The numbers of all plain things that are copied because the rows of this one lead there."""
         shared = self._shared_names(number)
         worths = [worth for name, worth in self._rows(number).items() if name not in shared]
-        found = [inner for worth in worths for inner in things_in(bare_worth(self.store, worth))]
-        return [inner for inner in found if self.store.sort_of(("thing", inner)) == "plain"]
+        found = [inner for worth in worths for inner in things_in(bare_worth(self.in_store, worth))]
+        return [inner for inner in found if self.in_store.sort_of(("thing", inner)) == "plain"]
 
 
 def shown_rows(store, thing):

@@ -167,9 +167,15 @@ def _shut(word, condition, blocks):
 
 def read_deed(text):
     """The deed that a text writes."""
+    reading = OpenDeed()
+    read_rows(text, reading)
+    return reading.deed()
+
+
+def read_rows(text, reading):
+    """Let what is being read take all rows of a text, without blanks around them and without empty ones."""
     if not isinstance(text, str):
         raise NoText(text)
-    reading = OpenDeed()
     rows = text.split("\n")
     for at, row in enumerate(rows):
         bare = row.strip(" ")
@@ -177,7 +183,6 @@ def read_deed(text):
             raise NoRow(at)
     if not reading.is_whole():
         raise NoRow(len(rows))
-    return reading.deed()
 
 
 def _head_at(row):

@@ -203,7 +203,11 @@ def led(store, thing, name):
 def shown(store, thing):
     """All names that are met or given where they are asked of a thing, a list."""
     check_there(store, thing)
-    names = store.names(base_of(store, thing))
+    return shown_through(store, thing, store.names(base_of(store, thing)))
+
+
+def shown_through(store, thing, names):
+    """The names that are shown of a thing where these are shown of its base, a list."""
     for record in reversed(chain(store, thing)[:-1]):
         names = record.front_shown(names)
     return names

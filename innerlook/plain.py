@@ -19,17 +19,17 @@ class RunningDeed:
 
     def __init__(self, title, me, worths):
         self.own_title = title
-        self.me = me
-        self.worths = worths
+        self.own_me = me
+        self.own_worths = worths
 
 
 class PlainRun:
     """A run in a Store, which it changes, also where it comes to a fault."""
 
     def __init__(self, store):
-        self.store = store
+        self.in_store = store
         self.running = []
-        self.counted = 0
+        self.many_counted = 0
         self.statements_told = []
 
     def run_named(self, thing, name, args, named):
@@ -45,9 +45,9 @@ class PlainRun:
     def _called(self, thing, name, args, named):
         """Run what the name meets in a thing that was looked at."""
         worth = self._got(thing, name)
-        if not self.store.has_thing(worth) or self.store.sort_of(worth) != "deed":
+        if not self.in_store.has_thing(worth) or self.in_store.sort_of(worth) != "deed":
             raise Fault("wrong", worth)
-        return self._run(thing, self.store.deed_of(worth), args, named)
+        return self._run(thing, self.in_store.deed_of(worth), args, named)
 
     def _run(self, thing, deed, args, named):
         """Run a deed within those that run already."""
@@ -86,12 +86,12 @@ class PlainRun:
 
     def _counted_worths(self, statement, place):
         """Count a statement, and reckon the expressions in it."""
-        if self.counted == MOST_STATEMENTS:
+        if self.many_counted == MOST_STATEMENTS:
             raise Fault("long", MOST_STATEMENTS)
-        self.counted += 1
+        self.many_counted += 1
         deed = self.running[-1]
-        names = sorted(list(deed.worths))
-        worths = [(name, deed.worths[name]) for name in names]
+        names = sorted(list(deed.own_worths))
+        worths = [(name, deed.own_worths[name]) for name in names]
         self.statements_told.append((len(self.running), deed.own_title, place, worths))
         return self._worths_in(statement)
 
@@ -101,11 +101,11 @@ class PlainRun:
         if word == "give":
             return (worths[0],)
         if word == "let":
-            self.running[-1].worths[statement[1]] = worths[0]
+            self.running[-1].own_worths[statement[1]] = worths[0]
         elif word == "set":
             self._check_thing(worths[0])
             _check_name_worth(worths[1])
-            self.store.put(worths[0], worths[1], worths[2])
+            self.in_store.put(worths[0], worths[1], worths[2])
         return ()
 
     def _worths_in(self, tree):
@@ -124,14 +124,14 @@ class PlainRun:
         if word == "lit":
             return tree[1]
         if word == "me":
-            return self.running[-1].me
+            return self.running[-1].own_me
         if word == "name":
             return self._worth_by_name(tree[1])
         raise Fault("wrong", word)
 
     def _worth_by_name(self, name):
         """The worth that a name has in the deed that runs."""
-        worths = self.running[-1].worths
+        worths = self.running[-1].own_worths
         if name not in worths:
             raise Fault("lacks", name)
         return worths[name]
@@ -142,36 +142,36 @@ class PlainRun:
         if word == "call":
             return self._call(tree, worths)
         if word == "new":
-            return self._made(worths[0], _by_names(tree[2], worths[1:]))
+            return self._made(worths[0], by_names(tree[2], worths[1:]))
         if word == "get":
             self._check_thing(worths[0])
             return self._got(worths[0], worths[1])
-        return _plainly_reckoned(word, worths)
+        return plainly_reckoned(word, worths)
 
     def _call(self, tree, worths):
         """The answer of the deed that a call runs."""
         self._check_thing(worths[0])
         first_named = 2 + len(tree[3])
-        named = _by_names(tree[4], worths[first_named:])
+        named = by_names(tree[4], worths[first_named:])
         return self._called(worths[0], worths[1], worths[2:first_named], named)
 
     def _got(self, thing, name):
         """What a name meets in a thing that was looked at."""
         _check_name_worth(name)
-        found = self.store.met(thing, name)
+        found = self.in_store.met(thing, name)
         if found is None:
             raise Fault("lacks", name)
         return found[1]
 
     def _made(self, kind, rows):
         """A new plain thing."""
-        if not self.store.may_have_things(kind):
+        if not self.in_store.may_have_things(kind):
             raise Fault("wrong", kind)
-        return self.store.plain(kind, rows=rows)
+        return self.in_store.plain(kind, rows=rows)
 
     def _check_thing(self, worth):
         """Come to a fault with a worth that is no thing of the sorts that it knows."""
-        if not self.store.has_thing(worth) or self.store.sort_of(worth) not in SORTS:
+        if not self.in_store.has_thing(worth) or self.in_store.sort_of(worth) not in SORTS:
             raise Fault("wrong", worth)
 
 
@@ -181,12 +181,12 @@ def _check_name_worth(worth):
         raise Fault("wrong", worth)
 
 
-def _by_names(named, worths):
+def by_names(named, worths):
     """The worths of the last expressions of a tree, a dict by their names."""
     return {pair[0]: worth for pair, worth in zip(named, worths)}
 
 
-def _plainly_reckoned(word, worths):
+def plainly_reckoned(word, worths):
     """What an expression that asks nothing of a Store makes of the worths in it."""
     if word == "row":
         return _row_of(worths)

@@ -224,14 +224,14 @@ class Store:
         check_name(name)
         if not self.holds(worth):
             raise NoWorth(worth)
-        self._check_changes(thing)
+        self.check_changes(thing)
         record.own_rows[name] = worth
 
     def drop(self, thing, name):
         """Drop a row of a thing."""
         record = self.record(thing)
         check_name(name)
-        self._check_changes(thing)
+        self.check_changes(thing)
         if name not in record.own_rows:
             raise Fault("lacks", name)
         if record.sort_word() == "plain" and name in self.wanted_names(record.own_kind):
@@ -279,9 +279,17 @@ class Store:
         """Whether something is a worth of which all things are there."""
         return is_worth(worth) and all([number < len(self.things) for number in things_in(worth)])
 
+    def holds_args(self, args):
+        """Whether something is a list of args of which all things are there."""
+        return are_args(args) and all([self.holds(worth) for worth in args])
+
+    def holds_rows(self, rows):
+        """Whether something is rows of which all things are there."""
+        return are_rows(rows) and all([self.holds(worth) for worth in rows.values()])
+
     def args_given(self, args):
         """Args that are handed in, a tuple."""
-        if not are_args(args) or not all([self.holds(worth) for worth in args]):
+        if not self.holds_args(args):
             raise NoList(args)
         return tuple(args)
 
@@ -289,7 +297,7 @@ class Store:
         """Rows that are handed in, a dict of their own, empty where None is."""
         if rows is None:
             return {}
-        if not are_rows(rows) or not all([self.holds(worth) for worth in rows.values()]):
+        if not self.holds_rows(rows):
             raise NoRows(rows)
         return dict(rows)
 
@@ -299,7 +307,7 @@ class Store:
 
     def may_have_things(self, kind):
         """Whether something is a kind of which plain things are made, and kinds beneath it."""
-        return self._is_kind(kind) and (kind == ALL or not self.never_changes(kind))
+        return self.is_kind(kind) and (kind == ALL or not self.never_changes(kind))
 
     def wanted_names(self, kind):
         """All names that a kind and those above it want, from the kind up, a list."""
@@ -314,13 +322,13 @@ class Store:
         lacking = [name for name in self.wanted_names(kind) if name not in rows]
         return lacking[0] if lacking else None
 
-    def _is_kind(self, thing):
+    def is_kind(self, thing):
         """Whether something is a kind of this Store."""
         return self.has_thing(thing) and self.sort_of(thing) == "kind"
 
     def _record_of_kind(self, kind):
         """The record of a kind."""
-        if not self._is_kind(kind):
+        if not self.is_kind(kind):
             raise NoKind(kind)
         return self.record(kind)
 
@@ -331,7 +339,7 @@ class Store:
             raise Fault("wrong", thing)
         return record
 
-    def _check_changes(self, thing):
+    def check_changes(self, thing):
         """Come to a fault with a thing of which no rows are set or dropped."""
         if self.never_changes(thing):
             raise Fault("barred", thing)
@@ -356,9 +364,14 @@ class Store:
         return [thing] + self._upward(record.own_kind) if sort == "plain" else []
 
 
+def is_listed(thing):
+    """Whether something is a list of names that a kind may want or share."""
+    return are_names(thing, MOST_LISTED)
+
+
 def check_listed(thing):
-    """Refuse what is no list of names that a kind may want or share."""
-    if not are_names(thing, MOST_LISTED):
+    """Refuse what is no such list."""
+    if not is_listed(thing):
         raise NoList(thing)
 
 

@@ -57,20 +57,33 @@ def view(store, thing, *, names=None, asks=None):
     """Make a view of a thing."""
     check_store(store)
     store.record(thing)
-    if names is not None and not (isinstance(names, tuple) and are_names(names, MOST_SHOWN)):
+    if not are_shown_names(names):
         raise NoList(names)
-    if asks is not None:
-        _check_asks(asks)
+    if not _is_tuple_of_unlike(asks):
+        raise NoList(asks)
+    if not are_asks(asks):
+        raise NoAsk(_words_that_are_none(asks)[0])
     return store.added(View(thing, names, asks))
 
 
-def _check_asks(asks):
-    """Refuse what is no tuple of words of asks, none of them twice."""
-    if not isinstance(asks, tuple) or _holds_twice(asks):
-        raise NoList(asks)
-    for word in asks:
-        if not is_ask(word):
-            raise NoAsk(word)
+def are_shown_names(thing):
+    """Whether a thing is a tuple of names that a view may let through, or None."""
+    return thing is None or (isinstance(thing, tuple) and are_names(thing, MOST_SHOWN))
+
+
+def are_asks(thing):
+    """Whether a thing is a tuple of words of asks, none of them twice, or None."""
+    return _is_tuple_of_unlike(thing) and (thing is None or not _words_that_are_none(thing))
+
+
+def _is_tuple_of_unlike(thing):
+    """Whether a thing is a tuple of unlike things, or None."""
+    return thing is None or (isinstance(thing, tuple) and not _holds_twice(thing))
+
+
+def _words_that_are_none(asks):
+    """What in a tuple is no word of an ask, a list."""
+    return [word for word in asks if not is_ask(word)]
 
 
 def _holds_twice(things):

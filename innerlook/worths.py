@@ -80,6 +80,11 @@ def is_row(worth):
     return isinstance(worth, tuple) and worth[0] == "row"
 
 
+def is_thing(thing):
+    """Whether something is a worth that is a thing, in whatever Store."""
+    return isinstance(thing, tuple) and is_worth(thing) and thing[0] == "thing"
+
+
 def says_yes(worth):
     """Whether a worth says yes."""
     _check_worth(worth)

@@ -194,7 +194,8 @@ class Usage(unittest.TestCase):
                 self.assertIsInstance(node.exc, ast.Call, (name, node.lineno))
                 self.assertIn(node.exc.func.id, CLASSES, (name, node.lineno))
             if isinstance(node, ast.ExceptHandler):
-                self.assertIn(node.type.id, CLASSES, (name, node.lineno))
+                for part in node.type.elts if isinstance(node.type, ast.Tuple) else [node.type]:
+                    self.assertIn(part.id, CLASSES, (name, node.lineno))
 
     def test_builtins_have_no_keywords_but_these(self):
         allowed = {"sorted": ("key", "reverse"), "min": ("key", "default"), "max": ("key", "default")}
