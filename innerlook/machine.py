@@ -17,7 +17,6 @@ class Machine:
         places, names = store.args_given(args), store.rows_given(named)
         self.in_store = store
         self.before = store.twin()
-        self.did_end = False
         self.run_there = Run(store)
         try:
             self.run_there.begin(thing, name, places, names)

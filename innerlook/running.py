@@ -28,10 +28,8 @@ class Running:
         self.waits = False
 
     def next_word(self):
-        """The word with which its code goes on; none behind its end, or while it waits for an answer."""
-        if self.waits or self.at == len(self.code):
-            return ""
-        return self.code[self.at][0]
+        """The word with which its code goes on, none behind its end."""
+        return self.code[self.at][0] if self.at < len(self.code) else ""
 
     def stop_there(self):
         """Tell its place where it stands ahead of a statement that is counted."""
@@ -89,14 +87,14 @@ class Run:
             if not isinstance(last, Running):
                 self.waiting.pop()
                 self._do_task(last)
+            elif last.waits:
+                last.stack.append(self.last_answer)
+                last.waits = False
             elif last.next_word() == "stop":
                 if self.many_counted == MOST_STATEMENTS:
                     raise Fault("long", MOST_STATEMENTS)
                 last.stop_there()
                 return
-            elif last.waits:
-                last.stack.append(self.last_answer)
-                last.waits = False
             else:
                 self._go_on_in(last)
 

@@ -67,10 +67,7 @@ class Wrap(Record):
         self.own_inner = inner
 
     def told(self):
-        memory = self.memory
-        if self.own_way[0] == "kept":
-            memory = tuple([(me, args, _in_one_order(named), answer) for me, args, named, answer in self.memory])
-        return self.own_way, self.own_inner, memory
+        return self.own_way, self.own_inner, self.remembers()
 
     def twin(self):
         other = Wrap(self.own_way, self.own_inner)
@@ -83,18 +80,11 @@ class Wrap(Record):
             self.own_way = (self.own_way[0], put_otherwise(self.own_way[1], numbers))
 
 
-def _in_one_order(named):
-    """Worths by names, as tuples, likewise for dicts that are equal."""
-    return tuple([(name, named[name]) for name in sorted(list(named))])
-
-
 def is_way(thing):
     """Whether a thing is a way."""
-    if not isinstance(thing, tuple) or not thing or not isinstance(thing[0], str):
-        return False
-    if len(thing) == 1:
-        return thing[0] == "kept"
-    if len(thing) != 2:
+    if thing == ("kept",):
+        return True
+    if not isinstance(thing, tuple) or len(thing) != 2:
         return False
     if thing[0] == "often":
         return is_whole(thing[1], 0, MOST_OFTEN)
@@ -132,10 +122,8 @@ def _in_row(store, thing, name):
 
 
 def _check_fits(store, way, inner):
-    """Refuse a way of which the deed can't be called as it says."""
+    """Refuse a way of which the deed is none, or can't be called as it says."""
     word, deed = way
-    if store.sort_of(deed) != "deed":
-        raise Fault("wrong", deed)
     params = store.deed_of(deed)[1]
     if word == "behind":
         fits = takes(params, 1, ())

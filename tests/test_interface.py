@@ -33,6 +33,26 @@ INTERFACE = {
         barring(store, thing, word) view_of(store, view) fronts_of(store, thing) is_narrower(store, one, other)""",
     "copies": """shown_rows(store, thing) copied(store, thing) copied_deep(store, thing)""",
     "alike": """alike(store, one, other) shows_alike(store, one, other, thing)""",
+    "asks": """ask(store, thing, word, things=()) deed_met(store, thing, name) asked_within(store, thing, word, things)
+        met_within(store, thing, name)""",
+    "wraps": """is_way(thing) put_on(store, thing, name, way) take_off(store, thing, name, wrap)
+        wraps_on(store, thing, name) deed_within(store, thing, name) way_of(store, wrap) inner_of(store, wrap)
+        remembered(store, wrap) inmost(store, one) Wrap.way(self) Wrap.inner(self) Wrap.takes_one(self)
+        Wrap.answer_to(self, me, args, named) Wrap.keep_answer(self, me, args, named, answer)""",
+    "machine": """Machine(store, thing, name, *, args=(), named=None) Machine.step(self) Machine.run(self)
+        Machine.call_off(self) Machine.is_done(self) Machine.worth(self) Machine.counted(self) Machine.frames(self)
+        Machine.title_of(self, frame) Machine.place(self, frame) Machine.names(self, frame) Machine.me(self, frame)
+        Machine.set_worth(self, frame, name, worth) Machine.frames_told(self)
+        called(store, thing, name, *, args=(), named=None)""",
+    "frames": """Frame.me(self) Frame.caller(self, store) Frame.deed(self) Frame.worths(self)
+        Frame.put_worth(self, name, worth) Frame.is_over(self)""",
+    "making": """deed_made(store, thing, name, text) kind_made(store, above, text) kind_text(store, kind)
+        exchanged(store, one, other) told_anew(store, kind, *, wants=None, shares=None)
+        first_unlike(store, thing, one, other, calls)""",
+    "doings": """is_doing(thing) done(store, doing) done_all(store, doings)""",
+    "pairs": """parted(store, one, other, name, *, args=(), named=None)""",
+    "storetext": """store_text(store) read_store(text)""",
+    "desk": """Desk() Desk.say(self, line) Desk.store(self) Desk.is_running(self)""",
 }
 
 
