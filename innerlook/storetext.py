@@ -109,7 +109,7 @@ class OpenStore:
     def _takes_rule(self, record, row):
         """Likewise, of a rule."""
         found = whole(row, rule_at(row, 5)) if row.startswith("rule ") else None
-        if found is None or not are_rules(record.own_rules + (found,)):
+        if not are_rules(record.own_rules + (found,)):
             return False
         self.made_store.things[-1] = Stand(record.behind(), record.own_rules + (found,))
         return True

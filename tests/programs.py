@@ -39,8 +39,9 @@ class Programs:
         if levels <= 1 or self.chance.random() < 0.3:
             return self.pick(lit(self.chance.randrange(-3, 9)), *[("name", name) for name in NUMBERS])
         one, other = self.number(levels - 1), self.number(levels - 1)
-        more = [("size", self.row(levels - 1)), ("get", self.thing(levels - 1), lit(self.pick("own", "n", "far"))),
-                ("same", self.any(levels - 1), self.any(levels - 1))]
+        more = [("size", self.row(levels - 1)), ("get", self.thing(levels - 1), lit(self.pick("own", "n", "far")))]
+        if not self.looks:
+            more.append(("same", self.any(levels - 1), self.any(levels - 1)))
         if self.callable:
             more += [self.call(levels - 1)] * 2
         return self.pick(("add", one, other), ("sub", one, other), ("less", one, other), *more, *self.looked(levels, "n"))
@@ -109,7 +110,7 @@ class Programs:
     def deed(self, title):
         params = (("by", "a"), ("or", "b", 2), ("onlyor", "x", 3), ("onlyor", "t", None))
         head = (("let", "r", ("row", (ME, ("name", "a")))), ("let", "s", ("row", ())), ("let", "u", ME),
-                ("if", ("same", ("name", "t"), lit(None)), (("let", "t", ME),), ()))
+                ("if", ("name", "t"), (), (("let", "t", ME),)))
         while True:
             made = (title, params, head + self.block(6, 6) + (("give", ("name", "a")),))
             if is_deed(made):
