@@ -181,12 +181,20 @@ def _rests_on(store, one, other):
 
 def _check_wants(store, before):
     """Lay the Store back where a plain thing lacks what its kind, or one above, wants."""
+    lacking = _first_lacking(store)
+    if lacking is not None:
+        store.lay(before)
+        raise Fault("wants", lacking)
+
+
+def _first_lacking(store):
+    """The first name that the first plain thing lacks to which one is lacking, or None."""
     for record in store.things:
         if record.sort_word() == "plain":
             lacking = store.first_lacking(record.own_kind, record.own_rows)
             if lacking is not None:
-                store.lay(before)
-                raise Fault("wants", lacking)
+                return lacking
+    return None
 
 
 def told_anew(store, kind, *, wants=None, shares=None):
