@@ -87,8 +87,8 @@ def frame_told(store, frame):
     thing = thing_of_frame(store, frame)
     if thing is not None:
         return thing
-    made = store.added(frame)
-    frame.mark.was_told = True
+    made, mark = store.added(frame), frame.mark
+    mark.was_told = True
     return made
 
 

@@ -130,6 +130,18 @@ class Usage(unittest.TestCase):
                           and isinstance(part.ctx, ast.Store)}
             self.assertEqual(methods & attributes, set(), title)
 
+    def test_no_name_is_a_method_here_and_an_attribute_there(self):
+        methods = {row.name for _, node in NODES if isinstance(node, ast.ClassDef) for row in node.body
+                   if isinstance(row, ast.FunctionDef)}
+        attributes = {node.attr for _, node in NODES if isinstance(node, ast.Attribute)
+                      and isinstance(node.ctx, ast.Store)}
+        self.assertEqual(methods & attributes, set())
+
+    def test_attributes_are_assigned_through_names(self):
+        for name, node in NODES:
+            if isinstance(node, ast.Attribute) and isinstance(node.ctx, ast.Store):
+                self.assertIsInstance(node.value, ast.Name, (name, node.lineno))
+
     def test_names(self):
         barred = "_cold _tuplegetter _outside _record _written_out _member_names".split()
         starts = ("_wall", "_pe_", "_dcw_", "_enum_", "_cm_", "_twin_re_", "_lay_", "_law_", "_stub_", "_sre", "__")

@@ -1,8 +1,10 @@
 """Promise 114, and 42, 45 and 113 for frames: Machines against the plain runner, and frames as things of a Store."""
 
+import random
 import unittest
 
 from checks import row
+from deeds import deed
 from house import House
 from innerlook.asks import ask
 from innerlook.errors import Fault
@@ -10,6 +12,7 @@ from innerlook.machine import Machine, called
 from innerlook.plain import rows_plain, run_plain
 from innerlook.store import Store
 from innerlook.trees import is_deed
+from innerlook.wraps import put_on
 from programs import Programs
 
 
@@ -229,6 +232,56 @@ class FramesAsThings(House):
                 if fault.why == "full":
                     continue
             self.assertEqual(seen, rows, seed)
+
+
+class AskedBetweenStops(unittest.TestCase):
+    """A Machine goes on likewise, whatever asks and calls between its stops come to a Fault."""
+
+    LOOKS = ("has", "names", "owner", "under", "params", "title", "copy", "deep", "kind", "stand", "narrow")
+
+    def test_programs_by_chance(self):
+        stops = 0
+        for seed in range(150):
+            plain, store = self.run_of(seed, False)
+            asked, other = self.run_of(seed, True)
+            self.assertEqual(plain, asked, seed)
+            self.assertTrue(store == other, seed)
+            stops += len(plain)
+        self.assertGreater(stops, 1000)
+
+    def run_of(self, seed, is_asked):
+        """All that is told at the stops of a run, in which frames are told and worths are set here and there."""
+        programs = Programs(seed, looks=self.LOOKS)
+        store, numbers, told = programs.store, random.Random(seed), []
+        peek = deed("deed peek (f) / do (look above f) / set f 'a' 77 / give (get f 'q')")
+        store.put(programs.kind, "peek", store.deed(peek))
+        put_on(store, programs.kind, "g", ("kept",))
+        try:
+            machine = Machine(store, programs.things[0], "f", args=[1])
+            while not machine.is_done():
+                frames = machine.frames() if numbers.random() < 0.3 else []
+                for frame in frames if is_asked else ():
+                    self.ask_all(store, programs.things[0], frame)
+                for frame in frames:
+                    if numbers.random() < 0.3:
+                        self.set_worth(store, machine, frame, is_asked)
+                told.append(machine.frames_told())
+                machine.step()
+            return told + [machine.worth()], store
+        except Fault as fault:
+            return told + [(fault.why, fault.found)], store
+
+    def ask_all(self, store, thing, frame):
+        for word, things in (("get", ["q"]), ("drop", ["a"]), ("set", ["q", 1]), ("copy", [])):
+            self.assertRaises(Fault, ask, store, frame, word, things)
+        self.assertRaises(Fault, called, store, thing, "peek", args=[frame])
+
+    def set_worth(self, store, machine, frame, is_asked):
+        for name in list(machine.names(frame))[:1]:
+            if is_asked:
+                ask(store, frame, "set", [name, 3])
+            else:
+                machine.set_worth(frame, name, 3)
 
 
 class Names(unittest.TestCase):
