@@ -266,6 +266,31 @@ class Ends(Machines):
         self.fault("lacks", "q", self.keeps, self.store, Machine(self.store, self.thing, "try", args=[front]).run)
         self.fault("lacks", "q", self.keeps, self.store, called, self.store, self.thing, "try", args=[front])
 
+    def test_each_word_of_a_fault_by_steps_and_by_a_run(self):
+        gone = self.view()
+        take_back(self.store, gone)
+        self.has("down", "deed down () / do (call me 'down')")
+        lines = {
+            "wrong": ("a", "do (add 1 'a')"), "lacks": ("q", "do (get me 'q')"), "many": (3, "do (call me 'add' 1 2 3)"),
+            "twice": ("n", "do (call me 'add' 1 n=2)"), "strange": ("q", "do (call me 'add' 1 q=2)"),
+            "wants": ("own", "do (new (look kind me))"), "far": (10 ** 9 + 1, "do (add 1000000000 1)"),
+            "barred": ("own", "do (get b 'own')"), "gone": (gone, "do (get a 'own')"), "long": (2000, "while 1 / end"),
+            "full": (200, "while 1 / do (look stand me) / end"), "deep": (12, "do (call me 'down')")}
+        for why, (found, text) in lines.items():
+            self.has("try", "deed try (a b) / set me 'own' 7 / " + text + " / give 1")
+            args = [gone, self.stand(("bar", "own"))]
+            before = self.store.twin()
+            for by_steps in (True, False):
+                machine = Machine(self.store, self.thing, "try", args=args)
+                self.fault(why, found, self.all_steps if by_steps else machine.run, *([machine] if by_steps else []))
+                self.assertTrue(self.store == before, why)
+                self.is_done_without_worth(machine)
+            self.fault(why, found, self.keeps, self.store, called, self.store, self.thing, "try", args=args)
+
+    def all_steps(self, machine):
+        while not machine.is_done():
+            machine.step()
+
     def test_called_off(self):
         before = self.store.twin()
         machine, outer, inner = self.two_frames()
